@@ -1,0 +1,1 @@
+"""Listenfield: a field of places that sense, and one answer from end to end."""
