@@ -20,6 +20,12 @@ def is_within(thing, least, most):
     return number is not None and least <= number <= most
 
 
+def is_from(thing, least):
+    """Tell whether it is a whole number from least on."""
+    number = number_of(thing)
+    return number is not None and least <= number
+
+
 def is_place(thing):
     """Tell whether it is a place of some web."""
     return is_within(thing, 0, LAST_PLACE)
@@ -60,22 +66,41 @@ def is_mark(thing):
 
 def are_marks(thing):
     """Tell whether it is a tuple of one or more marks that rise."""
-    things = tuple_of(thing)
-    if not things:
-        return False
-    marks = [mark_of(each) for each in things]
-    return None not in marks and rises(marks)
+    marks = rising_marks(thing)
+    return marks is not None and len(marks) > 0
 
 
 def mark_of(thing):
     """Tell a mark in Python's own kinds, None of all else."""
+    return numbers_of(thing, (is_place, is_turn))
+
+
+def rising_marks(thing):
+    """Tell a tuple of marks that rise, or of none, in Python's own kinds, None of all else."""
+    things = tuple_of(thing)
+    if things is None:
+        return None
+    marks = [mark_of(each) for each in things]
+    return tuple(marks) if None not in marks and rises(marks) else None
+
+
+def rising_places(thing):
+    """Tell a tuple of places that rise, or of none, in Python's own kinds, None of all else."""
+    things = tuple_of(thing)
+    if things is None or not all([is_place(each) for each in things]):
+        return None
+    places = [number_of(each) for each in things]
+    return tuple(places) if rises(places) else None
+
+
+def numbers_of(thing, kinds):
+    """Tell a tuple of whole numbers of these kinds, in order, as Python's own, None of all else."""
     parts = tuple_of(thing)
-    if parts is None or len(parts) != 2:
+    if parts is None or len(parts) != len(kinds):
         return None
-    place, turn = parts
-    if not is_place(place) or not is_turn(turn):
+    if not all([is_kind(part) for is_kind, part in zip(kinds, parts)]):
         return None
-    return number_of(place), number_of(turn)
+    return tuple([number_of(part) for part in parts])
 
 
 def rises(things):

@@ -41,6 +41,10 @@ class Terms:
         if self.many() * (self.jitter + self.drift * (self.quiet + 1)) > self.guard:
             raise Loose()
 
+    def same(self, other):
+        """Tell whether another thing is these very terms, whatever its class tells of it."""
+        return self is other
+
     def place(self, at):
         """Tell the tuple (rate, error, bound, energy, plan) of a place from 1 on."""
         return self._places[at]
@@ -56,6 +60,15 @@ class Terms:
     def width(self):
         """Tell how many units a slot has."""
         return TURN_UNITS // self._slots_many
+
+
+def known_place(terms, place):
+    """Tell a place of terms, both of which were handed in, terms as thing 0, the place as thing 1."""
+    if not isinstance(terms, Terms):
+        raise Wrong(0)
+    if not is_within(place, 0, terms.many() - 1):
+        raise Wrong(1)
+    return number_of(place)
 
 
 def places_of(many, thing, drift):

@@ -14,16 +14,23 @@ BARRED = {
     "type", "typing", "typing_extensions", "enum", "Enum", "IntEnum", "StrEnum", "Flag", "IntFlag", "Generic",
     "Protocol", "ABC", "ABCMeta", "namedtuple", "NamedTuple", "TypedDict", "TYPE_CHECKING", "abstractmethod",
     "register", "mro", "elements", "open", "input", "law", "version_info", "with_traceback", "add_note"}
+LIBRARY = {"math": {"gcd"}}
 INTERFACE = {
     "errors": ["FieldError", "Wrong", "NoLog", "TooMany", "NoNumber", "NoAnswer", "Narrow", "Loose", "Unfit", "NoText",
                "NoRow"],
     "kinds": ["is_whole", "is_place", "is_turn", "is_size", "is_shift", "is_sort", "is_plan", "is_mark", "are_marks"],
     "webs": ["Web", "slots_hold", "road_holds", "cut_holds"],
     "terms": ["Terms"],
+    "weather": ["Weather", "fits"],
+    "clocks": ["Clock", "bound_of", "chain_holds"],
+    "stores": ["Store", "gap", "ledger_holds"],
+    "items": ["is_item", "is_laminar", "lies_within", "item_of", "merged", "greatest"],
 }
 METHODS = {
     "Web": ["many", "pairs", "neighbours", "clash", "slots", "distances", "cut"],
     "Terms": ["place", "many", "slots_many", "width"],
+    "Clock": ["error", "bound", "chain", "in_time", "turn_more", "copied", "hears"],
+    "Store": ["copied", "left", "ledger", "wakes", "speaks"],
 }
 
 
@@ -63,9 +70,53 @@ class Language(unittest.TestCase):
         for path in FILES:
             for node in ast.walk(tree_of(path)):
                 self.assertNotIsInstance(node, ast.Import, path)
-                if isinstance(node, ast.ImportFrom):
+                if isinstance(node, ast.ImportFrom) and node.module not in LIBRARY:
                     self.assertEqual(node.module.split(".")[0], "listenfield", path)
                     self.assertEqual(node.level, 0, path)
+
+    def test_names_of_the_library_are_only_called(self):
+        for path in FILES:
+            tree = tree_of(path)
+            taken = [name for node in ast.walk(tree) if isinstance(node, ast.ImportFrom) and node.module in LIBRARY
+                     for name in node.names]
+            for name in taken:
+                self.assertIsNone(name.asname, path)
+            called = [node.func for node in ast.walk(tree) if isinstance(node, ast.Call) and not node.keywords]
+            for node in ast.walk(tree):
+                if isinstance(node, ast.Name) and node.id in [name.name for name in taken]:
+                    self.assertIn(node, called, (path, node.id))
+            for node in ast.walk(tree):
+                if isinstance(node, ast.ImportFrom) and node.module in LIBRARY:
+                    self.assertLessEqual({name.name for name in node.names}, LIBRARY[node.module], path)
+
+    def test_no_two_files_import_from_each_other(self):
+        near = {path.stem: {node.module.split(".")[1] for node in ast.walk(tree_of(path))
+                            if isinstance(node, ast.ImportFrom) and node.module.startswith("listenfield.")}
+                for path in FILES}
+        ahead = []
+        while len(ahead) < len(near):
+            free = [name for name in near if name not in ahead and near[name] <= set(ahead)]
+            self.assertTrue(free, sorted(set(near) - set(ahead)))
+            ahead += free
+
+    def test_no_local_name_is_that_of_a_class_or_an_import(self):
+        for path in FILES:
+            tree = tree_of(path)
+            barred = {name.name for node in ast.walk(tree) if isinstance(node, ast.ImportFrom) for name in node.names}
+            barred |= {node.name for node in ast.walk(tree) if isinstance(node, ast.ClassDef)}
+            stored = {node.id for node in ast.walk(tree) if isinstance(node, ast.Name)
+                      and not isinstance(node.ctx, ast.Load)} | {
+                node.arg for node in ast.walk(tree) if isinstance(node, ast.arg)}
+            self.assertFalse(stored & barred, path)
+
+    def test_no_name_is_a_method_and_an_attribute_of_one_class(self):
+        for path in FILES:
+            for node in ast.walk(tree_of(path)):
+                if isinstance(node, ast.ClassDef):
+                    methods = {part.name for part in node.body if isinstance(part, ast.FunctionDef)}
+                    kept = {part.attr for part in ast.walk(node) if isinstance(part, ast.Attribute)
+                            and isinstance(part.ctx, ast.Store)}
+                    self.assertFalse(methods & kept, (path, node.name))
 
     def test_names(self):
         import builtins
