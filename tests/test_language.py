@@ -25,12 +25,19 @@ INTERFACE = {
     "clocks": ["Clock", "bound_of", "chain_holds"],
     "stores": ["Store", "gap", "ledger_holds"],
     "items": ["is_item", "is_laminar", "lies_within", "item_of", "merged", "greatest"],
+    "posts": ["Post"],
+    "questions": ["is_question", "asks", "windows_of", "closing", "closes", "over", "Asking"],
+    "answers": ["mean_of", "answer_of", "answer_holds"],
+    "levels": ["Levels"],
 }
 METHODS = {
     "Web": ["many", "pairs", "neighbours", "clash", "slots", "distances", "cut"],
     "Terms": ["place", "many", "slots_many", "width"],
     "Clock": ["error", "bound", "chain", "in_time", "turn_more", "copied", "hears"],
     "Store": ["copied", "left", "ledger", "wakes", "speaks"],
+    "Post": ["held", "out", "made", "taken", "put", "make_up", "hears_taken", "handed", "let_go", "copied"],
+    "Asking": ["version", "listed", "ask", "end", "change", "copied"],
+    "Levels": ["hears", "at_slot", "level", "head", "copied"],
 }
 
 

@@ -1,0 +1,105 @@
+"""Posts: what a place has of one question, and how it is brought from place to place."""
+
+from listenfield.items import is_within_item, loosened, merge, plain_item, rank
+from listenfield.plain import number_of
+
+
+class Post:
+    """What a place has of one question."""
+
+    def __init__(self, place, number):
+        """Make the post that a place has at first of the question of a number."""
+        self._place = number_of(place)
+        self._number = number_of(number)
+        self._held = []
+        self._out = None
+        self._made = 0
+        self._taken = {}
+
+    def held(self):
+        """Tell the items that are held, by windows, then marks."""
+        return list(self._held)
+
+    def out(self):
+        """Tell the parcel (number, to, items) that is out, or None."""
+        return self._out
+
+    def made(self):
+        """Tell how many parcels were made."""
+        return self._made
+
+    def taken(self, neighbour):
+        """Tell the number of the last parcel that was taken from a neighbour, 0 of all others."""
+        return self._taken.get(number_of(neighbour), 0)
+
+    def put(self, item):
+        """Let an item come into what is held."""
+        self._come([plain_item(item)])
+
+    def make_up(self, head, forgotten):
+        """Take back what is out to one that is forgotten, and make up a parcel to the head."""
+        if self._out is not None and self._out[1] in [number_of(place) for place in forgotten]:
+            _, _, items = self._out
+            self._out = None
+            self._come([loosened(item) for item in items])
+        if self._out is None and head is not None and self._held:
+            self._made += 1
+            self._out = (self._made, number_of(head), tuple(packed(self._held)))
+            self._held = []
+
+    def hears_taken(self, speaker, number):
+        """Hear that a speaker has taken the parcel of a number from it."""
+        if self._out is not None:
+            own, to, _ = self._out
+            if to == number_of(speaker) and own <= number_of(number):
+                self._out = None
+
+    def handed(self, speaker, parcel):
+        """Be handed a parcel that goes to it, and tell whether it is taken."""
+        number, _, items = parcel
+        if number_of(number) <= self.taken(speaker):
+            return False
+        self._taken[number_of(speaker)] = number_of(number)
+        self._come([plain_item(item) for item in items])
+        return True
+
+    def let_go(self, windows):
+        """Let go of all that is held, or out, of some windows."""
+        gone = [number_of(window) for window in windows]
+        self._held = [item for item in self._held if item[1] not in gone]
+        if self._out is not None:
+            own, to, items = self._out
+            rest = tuple([item for item in items if item[1] not in gone])
+            self._out = (own, to, rest) if rest else None
+
+    def copied(self):
+        """Tell a post that is alike and goes on by itself."""
+        twin = Post(self._place, self._number)
+        twin._held = list(self._held)
+        twin._out = self._out
+        twin._made = self._made
+        twin._taken = dict(self._taken)
+        return twin
+
+    def _come(self, items):
+        """Let plain items come into what is held, one by one."""
+        for item in items:
+            self._held = with_item(self._held, item)
+
+
+def with_item(held, item):
+    """Tell what is held behind an item that comes: none of it within another one."""
+    around = [other for other in held if is_within_item(item, other)]
+    # Of two with the same marks the loose one goes, of two alike the one that comes.
+    if any([other[2] != item[2] or item[6] or not other[6] for other in around]):
+        return held
+    rest = [other for other in held if not is_within_item(other, item)]
+    return sorted([*rest, item], key=rank)
+
+
+def packed(held):
+    """Tell what a parcel has of what is held: of each window all that isn't loose as one, and each loose one."""
+    loose = [item for item in held if item[6]]
+    tight = [item for item in held if not item[6]]
+    windows = sorted(set([item[1] for item in tight]))
+    return sorted([*loose, *[merge([item for item in tight if item[1] == window]) for window in windows]], key=rank)
