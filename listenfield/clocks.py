@@ -126,9 +126,11 @@ def leads(origin, meetings, place):
 
 def stand_in_order(meetings, hearings):
     """Tell whether each meeting is a hearing, each one behind the one before it."""
-    found = 0
-    for hearing in hearings:
-        heard = tuple([number_of(part) for part in hearing])
-        if found < len(meetings) and heard == meetings[found]:
-            found += 1
-    return found == len(meetings)
+    rest = list(meetings)
+    # From the end on: a chain's meetings are mostly among the last hearings.
+    for hearing in reversed(hearings):
+        if not rest:
+            return True
+        if tuple([number_of(part) for part in hearing]) == rest[-1]:
+            rest.pop()
+    return not rest
