@@ -4,7 +4,7 @@ from math import gcd
 
 from listenfield.items import greatest
 from listenfield.kinds import is_from, mark_of, rises, rising_marks, rising_places
-from listenfield.plain import number_of, tuple_of
+from listenfield.plain import number_of, numbers_in, tuple_of
 
 ANSWER_PARTS = 10
 
@@ -21,7 +21,7 @@ def answer_of(number, window, turn, items, rooms):
     tops = greatest(items)
     marks = sorted([mark for item in tops for mark in item[2]])
     figures = figures_of(len(marks), [item[3] for item in tops], [item[4] for item in tops], [item[5] for item in tops])
-    known = sorted([(mark_of(mark), rising_places(places)) for mark, places in rooms.items()])
+    known = sorted([(numbers_in(mark), numbers_in(places)) for mark, places in rooms.items()])
     lacks = tuple([row for row in known if row[0] not in marks])
     return number_of(number), number_of(window), number_of(turn), tuple(marks), *figures, lacks
 
@@ -77,4 +77,4 @@ def is_figure(thing, figure):
     parts = tuple_of(thing)
     if parts is None:
         return number_of(thing) == figure
-    return tuple([number_of(part) for part in parts]) == figure
+    return numbers_in(parts) == figure

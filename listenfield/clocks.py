@@ -2,7 +2,7 @@
 
 from listenfield.errors import Wrong
 from listenfield.kinds import is_from, is_place, is_turn, is_within, numbers_of
-from listenfield.plain import number_of, tuple_of
+from listenfield.plain import number_of, numbers_in, tuple_of
 from listenfield.terms import known_place
 
 
@@ -131,6 +131,6 @@ def stand_in_order(meetings, hearings):
     for hearing in reversed(hearings):
         if not rest:
             return True
-        if tuple([number_of(part) for part in hearing]) == rest[-1]:
+        if numbers_in(hearing) == rest[-1]:
             rest.pop()
     return not rest

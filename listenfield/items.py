@@ -1,14 +1,20 @@
 """Items: what was sensed, and what was merged of it, with the marks of who is in it."""
 
-from listenfield.kinds import is_from, is_whole, rising_marks
-from listenfield.plain import number_of, tuple_of
+from listenfield.kinds import are_marks, is_from, is_whole
+from listenfield.plain import number_of, numbers_in, tuple_of
 
 ITEM_PARTS = 7
 
 
 def is_item(thing):
     """Tell whether it is an item."""
-    return plain_item(thing) is not None
+    parts = tuple_of(thing)
+    if parts is None or len(parts) != ITEM_PARTS:
+        return False
+    number, window, marks, *figures, loose = parts
+    if not are_marks(marks) or not is_from(number, 1) or not is_from(window, 0):
+        return False
+    return all([is_whole(figure) for figure in figures]) and isinstance(loose, bool)
 
 
 def item_of(number, window, place, turn, reading):
@@ -42,18 +48,12 @@ def greatest(items):
     return [row for at, row in enumerate(rows) if is_top(row, rows[:at], rows[at + 1:])]
 
 
-def plain_item(thing):
-    """Tell an item in Python's own kinds, None of all else."""
-    parts = tuple_of(thing)
-    if parts is None or len(parts) != ITEM_PARTS:
-        return None
-    number, window, marks, *figures, loose = parts
-    row = rising_marks(marks)
-    if not row or not is_from(number, 1) or not is_from(window, 0):
-        return None
-    if not all([is_whole(figure) for figure in figures]) or not isinstance(loose, bool):
-        return None
-    return number_of(number), number_of(window), row, *[number_of(figure) for figure in figures], loose
+def plain_item(item):
+    """Tell an item in Python's own kinds."""
+    number, window, marks, *figures, loose = item
+    row = tuple([numbers_in(mark) for mark in marks])
+    total, least, most = numbers_in(figures)
+    return number_of(number), number_of(window), row, total, least, most, loose
 
 
 def rank(item):

@@ -1,6 +1,6 @@
 """The kinds of things, told of whatever is handed in."""
 
-from listenfield.plain import number_of, text_of, tuple_of
+from listenfield.plain import number_of, numbers_in, text_of, tuple_of
 
 LAST_PLACE = 9
 LAST_TURN = 10 ** 6
@@ -89,8 +89,8 @@ def rising_places(thing):
     things = tuple_of(thing)
     if things is None or not all([is_place(each) for each in things]):
         return None
-    places = [number_of(each) for each in things]
-    return tuple(places) if rises(places) else None
+    places = numbers_in(things)
+    return places if rises(places) else None
 
 
 def numbers_of(thing, kinds):
@@ -100,9 +100,9 @@ def numbers_of(thing, kinds):
         return None
     if not all([is_kind(part) for is_kind, part in zip(kinds, parts)]):
         return None
-    return tuple([number_of(part) for part in parts])
+    return numbers_in(parts)
 
 
 def rises(things):
-    """Tell of a list of plain things whether each is greater than the one ahead."""
+    """Tell of a list or tuple of plain things whether each is greater than the one ahead."""
     return all([ahead < behind for ahead, behind in zip(things, things[1:])])

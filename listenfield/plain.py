@@ -30,6 +30,11 @@ def tuple_of(thing):
     return tuple(thing) if isinstance(thing, tuple) else None
 
 
+def numbers_in(things):
+    """Tell a tuple of the whole numbers in a tuple or list, as Python's own."""
+    return tuple([number_of(thing) for thing in things])
+
+
 def list_of(thing):
     """Tell a new list of what is in a list, None of all else."""
     return list(thing) if isinstance(thing, list) else None

@@ -11,14 +11,15 @@ class Post:
         """Make the post that a place has at first of the question of a number."""
         self._place = number_of(place)
         self._number = number_of(number)
-        self._held = []
+        # By windows, for only items of one window lie within each other; of each one by marks.
+        self._held = {}
         self._out = None
         self._made = 0
         self._taken = {}
 
     def held(self):
         """Tell the items that are held, by windows, then marks."""
-        return list(self._held)
+        return [item for window in sorted(self._held) for item in self._held[window]]
 
     def out(self):
         """Tell the parcel (number, to, items) that is out, or None."""
@@ -27,6 +28,10 @@ class Post:
     def made(self):
         """Tell how many parcels were made."""
         return self._made
+
+    def stock(self):
+        """Tell all items that it has, held ones and those in its parcel; one that is both stands twice."""
+        return self.held() + list(self._out[2]) if self._out is not None else self.held()
 
     def taken(self, neighbour):
         """Tell the number of the last parcel that was taken from a neighbour, 0 of all others."""
@@ -44,8 +49,9 @@ class Post:
             self._come([loosened(item) for item in items])
         if self._out is None and head is not None and self._held:
             self._made += 1
-            self._out = (self._made, number_of(head), tuple(packed(self._held)))
-            self._held = []
+            items = [item for window in sorted(self._held) for item in packed(self._held[window])]
+            self._out = (self._made, number_of(head), tuple(items))
+            self._held = {}
 
     def hears_taken(self, speaker, number):
         """Hear that a speaker has taken the parcel of a number from it."""
@@ -66,7 +72,7 @@ class Post:
     def let_go(self, windows):
         """Let go of all that is held, or out, of some windows."""
         gone = [number_of(window) for window in windows]
-        self._held = [item for item in self._held if item[1] not in gone]
+        self._held = {window: items for window, items in self._held.items() if window not in gone}
         if self._out is not None:
             own, to, items = self._out
             rest = tuple([item for item in items if item[1] not in gone])
@@ -75,7 +81,7 @@ class Post:
     def copied(self):
         """Tell a post that is alike and goes on by itself."""
         twin = Post(self._place, self._number)
-        twin._held = list(self._held)
+        twin._held = {window: list(items) for window, items in self._held.items()}
         twin._out = self._out
         twin._made = self._made
         twin._taken = dict(self._taken)
@@ -84,11 +90,17 @@ class Post:
     def _come(self, items):
         """Let plain items come into what is held, one by one."""
         for item in items:
-            self._held = with_item(self._held, item)
+            self._held[item[1]] = with_item(self._held.get(item[1], []), item)
+
+
+def plain_parcel(parcel):
+    """Tell a parcel in Python's own kinds."""
+    number, to, items = parcel
+    return number_of(number), number_of(to), tuple([plain_item(item) for item in items])
 
 
 def with_item(held, item):
-    """Tell what is held behind an item that comes: none of it within another one."""
+    """Tell what is held of a window behind an item of it that comes: none within another one."""
     around = [other for other in held if is_within_item(item, other)]
     # Of two with the same marks the loose one goes, of two alike the one that comes.
     if any([other[2] != item[2] or item[6] or not other[6] for other in around]):
@@ -98,8 +110,7 @@ def with_item(held, item):
 
 
 def packed(held):
-    """Tell what a parcel has of what is held: of each window all that isn't loose as one, and each loose one."""
+    """Tell what a parcel has of what is held of a window: all that isn't loose as one, and each loose one."""
     loose = [item for item in held if item[6]]
     tight = [item for item in held if not item[6]]
-    windows = sorted(set([item[1] for item in tight]))
-    return sorted([*loose, *[merge([item for item in tight if item[1] == window]) for window in windows]], key=rank)
+    return sorted([*loose, merge(tight)], key=rank) if tight else loose

@@ -2,7 +2,7 @@
 
 from listenfield.errors import NoNumber, TooMany, Wrong
 from listenfield.kinds import is_from, is_sort, is_turn, is_within, rising_places
-from listenfield.plain import number_of, tuple_of
+from listenfield.plain import number_of, numbers_in, tuple_of
 
 MOST_LIVING = 4
 MOST_EVERY = 20
@@ -73,7 +73,8 @@ class Asking:
 
 def is_question(thing):
     """Tell whether it is a question."""
-    return plain_question(thing) is not None
+    parts = tuple_of(thing)
+    return bool(parts) and is_from(parts[0], 1) and are_terms(parts[1:])
 
 
 def asks(question, place):
@@ -121,28 +122,36 @@ def newer_list(own, other):
     return other if other[0] > own[0] else own
 
 
-def plain_question(thing):
-    """Tell a question in Python's own kinds, None of all else."""
-    parts = tuple_of(thing)
-    if not parts or not is_from(parts[0], 1):
-        return None
-    terms = plain_terms(parts[1:])
-    return (number_of(parts[0]), *terms) if terms is not None else None
+def plain_question(question):
+    """Tell a question in Python's own kinds."""
+    number, *terms_of = question
+    terms = plain_terms(terms_of)
+    return (number_of(number), *terms)
 
 
-def plain_terms(thing):
-    """Tell a question's terms, all but its number, in Python's own kinds, None of all else."""
+def plain_terms(terms_of):
+    """Tell a question's terms, all but its number, in Python's own kinds."""
+    sort, places, first, every, length, lag = terms_of
+    asked = numbers_in(places) if places is not None else None
+    return number_of(sort), asked, number_of(first), number_of(every), number_of(length), number_of(lag)
+
+
+def plain_list(told):
+    """Tell a list of questions with its version in Python's own kinds."""
+    version, questions = told
+    return number_of(version), tuple([plain_question(question) for question in questions])
+
+
+def are_terms(thing):
+    """Tell of whatever is handed in whether it is a question's terms, all but its number."""
     parts = tuple_of(thing)
     if parts is None or len(parts) != TERMS_PARTS:
-        return None
+        return False
     sort, places, first, every, length, lag = parts
     if not is_sort(sort) or not is_turn(first) or not is_within(every, 1, MOST_EVERY):
-        return None
-    longest = min(LONGEST_WINDOW, 2 * number_of(every))
-    if not is_within(length, 1, longest) or not is_within(lag, 0, LONGEST_LAG):
-        return None
-    asked = rising_places(places)
+        return False
     # None asks all places; no places at all is no question.
-    if places is not None and not asked:
-        return None
-    return number_of(sort), asked, number_of(first), number_of(every), number_of(length), number_of(lag)
+    if places is not None and not rising_places(places):
+        return False
+    longest = min(LONGEST_WINDOW, 2 * number_of(every))
+    return is_within(length, 1, longest) and is_within(lag, 0, LONGEST_LAG)

@@ -26,6 +26,15 @@ def answered(*items, rooms=None):
     return answer_of(1, 2, 9, list(items), ROOMS if rooms is None else rooms)
 
 
+class SomewhatBeyond(unittest.TestCase):
+
+    def test_marks_and_rooms_beyond_the_limits_are_told_of_all_the_same(self):
+        item = item_of(1, 2, 10, 10 ** 6 + 1, 5)
+        rooms = {(10, 10 ** 6 + 1): (0,), (10, 10 ** 6 + 2): (4, 12)}
+        told = (1, 2, 9, ((10, 10 ** 6 + 1),), 1, 5, 5, 5, (5, 1), (((10, 10 ** 6 + 2), (4, 12)),))
+        self.assertEqual(answer_of(1, 2, 9, [item], rooms), told)
+
+
 class MeanOf(unittest.TestCase):
 
     def test_in_lowest_terms(self):

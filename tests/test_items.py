@@ -25,6 +25,19 @@ def deep(thing, number):
     return number(thing) if type(thing) is int else thing
 
 
+class SomewhatBeyond(unittest.TestCase):
+
+    def test_marks_beyond_the_limits_are_told_of_all_the_same(self):
+        one, other = item_of(1, 0, 10, 3, 5), item_of(1, 0, 2, 10 ** 6 + 1, -4)
+        both = (1, 0, ((2, 10 ** 6 + 1), (10, 3)), 1, -4, 5, False)
+        self.assertEqual([is_item(item) for item in (one, other, both)], [False] * 3)
+        self.assertEqual(merged([one, other]), both)
+        self.assertIs(lies_within(one, both), True)
+        self.assertIs(lies_within(both, one), False)
+        self.assertIs(is_laminar([one, other, both]), True)
+        self.assertEqual(greatest([one, both, other]), [both])
+
+
 class IsItem(unittest.TestCase):
 
     def test_right_ones(self):

@@ -29,6 +29,10 @@ INTERFACE = {
     "questions": ["is_question", "asks", "windows_of", "closing", "closes", "over", "Asking"],
     "answers": ["mean_of", "answer_of", "answer_holds"],
     "levels": ["Levels"],
+    "message": ["Message"],
+    "places": ["Place"],
+    "tracks": ["way_to", "way_holds", "reason_of"],
+    "watch": ["bound_held"],
 }
 METHODS = {
     "Web": ["many", "pairs", "neighbours", "clash", "slots", "distances", "cut"],
@@ -38,6 +42,8 @@ METHODS = {
     "Post": ["held", "out", "made", "taken", "put", "make_up", "hears_taken", "handed", "let_go", "copied"],
     "Asking": ["version", "listed", "ask", "end", "change", "copied"],
     "Levels": ["hears", "at_slot", "level", "head", "copied"],
+    "Place": ["listed", "asking", "post", "turn_more", "wakes", "sense", "speaks", "hears", "took", "lets_go",
+              "copied"],
 }
 
 

@@ -33,6 +33,27 @@ def turns_of(question, window):
     return list(range(first + window * every, first + window * every + length))
 
 
+class SomewhatBeyond(unittest.TestCase):
+
+    def test_what_is_beyond_a_limit_is_told_of_all_the_same(self):
+        for question in (of(0, 25, 3, 4), of(0, 4, 9, 4), of(0, 1, 5, 4), of(0, 4, 3, 201), of(10 ** 6 + 9, 4, 3, 4),
+                         of(0, 4, 3, 4, (3, 12)), of(0, 4, 3, 4, (), sort=10)):
+            self.assertIs(is_question(question), False)
+            self.assertIs(asks(question, 3), question[2] is None or 3 in question[2])
+            first, every, length, lag = question[3:]
+            for window in (0, 1, 7):
+                self.assertEqual(closes(question, window), first + window * every + length - 1 + lag)
+                self.assertIn(window, windows_of(question, first + window * every))
+                self.assertEqual(closing(question, closes(question, window)), [window])
+                self.assertEqual(over(question, closes(question, window)), window + 1)
+
+    def test_it_is_asked_all_the_same(self):
+        root = Asking()
+        self.assertEqual(root.ask((10, (), 4, 25, 60, 201), 4), 1)
+        self.assertEqual(root.change(1, (0, (3, 12), 10 ** 6 + 9, 4, 9, 4), 4), 2)
+        self.assertEqual(root.listed(), (2, ((2, 0, (3, 12), 10 ** 6 + 9, 4, 9, 4),)))
+
+
 class IsQuestion(unittest.TestCase):
 
     def test_right_ones(self):
