@@ -142,5 +142,5 @@ class Place:
         rows = []
         for number, post in self._posts.items():
             taken = [(near, post.taken(near)) for near in self._terms.web.neighbours(self.at)]
-            rows = [*rows, *[(number, near, many) for near, many in taken if many > 0]]
+            rows = rows + [(number, near, many) for near, many in taken if many > 0]
         return tuple(rows)

@@ -33,6 +33,10 @@ INTERFACE = {
     "places": ["Place"],
     "tracks": ["way_to", "way_holds", "reason_of"],
     "watch": ["bound_held"],
+    "net": ["Net"],
+    "logs": ["Log", "show_deed", "read_deed", "show_terms", "read_terms", "come_up"],
+    "desk": ["Desk"],
+    "end": ["answered"],
 }
 METHODS = {
     "Web": ["many", "pairs", "neighbours", "clash", "slots", "distances", "cut"],
@@ -44,6 +48,10 @@ METHODS = {
     "Levels": ["hears", "at_slot", "level", "head", "copied"],
     "Place": ["listed", "asking", "post", "turn_more", "wakes", "sense", "speaks", "hears", "took", "lets_go",
               "copied"],
+    "Net": ["step", "ask", "change", "end", "turns", "living", "speeches", "hearings", "meetings", "sensed", "answers",
+            "cut", "place", "items_at", "rooms", "holders", "takings", "reasons", "held", "copied"],
+    "Log": ["net", "do", "text"],
+    "Desk": ["say"],
 }
 
 

@@ -189,7 +189,8 @@ class WayHolds(unittest.TestCase):
                 told[at] = told[at][:part] + (thing,) + told[at][part + 1:]
                 right = isinstance(thing, Sly) and int.__eq__(thing, (A, B, C)[at][part])
                 self.assertIs(holds(told), right is True, (at, part, thing))
-        for thing in strange_things() + [Sly(77), [2, MARK], (2, list(MARK)), (2, MARK, 0), (2, (3, 5, 0)), (True, MARK)]:
+        for thing in strange_things() + [Sly(77), [2, MARK], (2, list(MARK)), (2, MARK, 0), (2, (3, 5, 0)),
+                                         (True, MARK)]:
             self.assertIs(holds([A[:4] + ((thing,),), B, C]), False)
             self.assertIs(holds([A[:4] + (((2, thing),),), B, C]), False)
             self.assertIs(holds([A[:4] + (((2, (3, thing)),),), B, C]), False)
