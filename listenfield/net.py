@@ -8,7 +8,7 @@ from listenfield.plain import number_of, numbers_in
 from listenfield.questions import closing
 from listenfield.terms import TURN_UNITS
 from listenfield.tracks import bits_of, reason_of
-from listenfield.watch import bound_held
+from listenfield.watch import is_held
 from listenfield.weather import fits
 
 
@@ -118,11 +118,12 @@ class Net:
         """Tell the items of a place, held ones and those in its parcels, sorted."""
         known = self._places[number_of(place)]
         _, questions = known.listed()
-        return sorted([item for question in questions for item in known.items_of(question[0])], key=rank)
+        return sorted([item for question in questions for item in known.post(question[0]).stock()], key=rank)
 
     def rooms(self, number, window, mark):
         """Tell the places, rising, that have a mark in an item."""
-        return self._rooms_by_mark(number_of(number), number_of(window)).get(numbers_in(mark), [])
+        known, told = number_of(window), numbers_in(mark)
+        return [place.at for place in self._places if place.has_mark(number, known, told)]
 
     def holders(self, number):
         """Tell the places, rising, that have a question: whoever has an item of it has it in its list, too."""
@@ -136,7 +137,7 @@ class Net:
         living = [at for at, died in enumerate(self._died) if died is None or died > other]
         timely = [row for row in self._timely if one <= row[0] <= other]
         hearings = [row for row in self._hearings if one <= row[0] <= other]
-        return bound_held(self._terms, living, timely, hearings, one, other)
+        return is_held(self._terms, living, timely, hearings, one, other)
 
     def copied(self):
         """Tell a net that is alike and goes on by itself."""
@@ -229,22 +230,13 @@ class Net:
 
     def _answer(self, number, window, turn):
         """Let the root answer a window, and note why each mark lacked."""
-        held = [item for item in self._places[0].items_of(number) if item[1] == window]
-        places = self._rooms_by_mark(number, window)
-        rooms = {mark: tuple(places.get(mark, [])) for mark in self._marks.get((number, window), [])}
+        held = self._places[0].post(number).in_window(window)
+        marks = self._marks.get((number, window), [])
+        rooms = {mark: tuple(self.rooms(number, window, mark)) for mark in marks}
         answer = answer_of(number, window, turn, held, rooms)
         self._answers.append(answer)
         web, living = self._terms.web, self.living()
         self._reasons[(number, window)] = [(mark, reason_of(web, living, told)) for mark, told in answer[-1]]
-
-    def _rooms_by_mark(self, number, window):
-        """Tell for each mark of a question and window the places, rising, that have it in an item."""
-        rooms = {}
-        for place in self._places:
-            rows = [item[2] for item in place.items_of(number) if item[1] == window]
-            for mark in sorted(set([each for row in rows for each in row])):
-                rooms.setdefault(mark, []).append(place.at)
-        return rooms
 
 
 def by_pair(rows):

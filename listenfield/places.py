@@ -107,10 +107,10 @@ class Place:
             post, many = self.post(question[0]), over(question, turn)
             post.let_go([item[1] for item in post.stock() if item[1] < many])
 
-    def items_of(self, number):
-        """Tell all items of a question, held ones and those in its parcel."""
+    def has_mark(self, number, window, mark):
+        """Tell whether it has an item of a question and window with a mark."""
         post = self.post(number)
-        return post.stock() if post is not None else []
+        return post is not None and any([mark in item[2] for item in post.in_window(window)])
 
     def copied(self):
         """Tell a place that is alike and goes on by itself."""

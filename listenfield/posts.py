@@ -31,7 +31,11 @@ class Post:
 
     def stock(self):
         """Tell all items that it has, held ones and those in its parcel; one that is both stands twice."""
-        return self.held() + list(self._out[2]) if self._out is not None else self.held()
+        return self.held() + list(self._sent())
+
+    def in_window(self, window):
+        """Tell all items of a window that it has."""
+        return self._held.get(window, []) + [item for item in self._sent() if item[1] == window]
 
     def taken(self, neighbour):
         """Tell the number of the last parcel that was taken from a neighbour, 0 of all others."""
@@ -86,6 +90,10 @@ class Post:
         twin._made = self._made
         twin._taken = dict(self._taken)
         return twin
+
+    def _sent(self):
+        """Tell the items in the parcel that is out."""
+        return self._out[2] if self._out is not None else ()
 
     def _come(self, items):
         """Let plain items come into what is held, one by one."""

@@ -10,14 +10,19 @@ LATE = "late"
 
 def way_to(takings, number, window, mark, place):
     """Tell the way of a mark to a place whose last taking stands first, None without one."""
-    bearing = bearing_ones([plain_taking(taking) for taking in takings], number, window, mark)
+    asked, bit, end = number_of(number), plain_bit((window, mark)), number_of(place)
     # Each place keeps the first way that leads to it: no way on from there comes sooner by another one.
     ways = {number_of(mark[0]): []}
-    for taking in bearing:
-        _, speaker, hearer, _, _ = taking
-        if speaker in ways and hearer not in ways:
-            ways[hearer] = [*ways[speaker], taking]
-    return ways.get(number_of(place))
+    for taking in takings:
+        if end in ways:
+            return ways[end]
+        # Most takings are passed over by their numbers alone: their bits are many.
+        if number_of(taking[1]) in ways and number_of(taking[2]) not in ways and number_of(taking[3]) == asked:
+            known = plain_taking(taking)
+            _, speaker, hearer, _, bits = known
+            if bit in bits:
+                ways[hearer] = [*ways[speaker], known]
+    return ways.get(end)
 
 
 def way_holds(takings, number, window, mark, place, way):
@@ -26,13 +31,12 @@ def way_holds(takings, number, window, mark, place, way):
     if things is None:
         return False
     steps = [taking_of(thing) for thing in things]
-    at = number_of(mark[0])
+    asked, bit, at = number_of(number), plain_bit((window, mark)), number_of(mark[0])
     for step in steps:
-        if step is None or step[1] != at:
+        if step is None or step[1] != at or step[3] != asked or bit not in step[4]:
             return False
         at = step[2]
-    bearing = bearing_ones([plain_taking(taking) for taking in takings], number, window, mark)
-    return at == number_of(place) and stand_behind(steps, bearing)
+    return at == number_of(place) and stand_behind(steps, takings)
 
 
 def reason_of(web, living, rooms):
@@ -84,16 +88,10 @@ def bit_of(thing):
     return number_of(parts[0]), numbers_in(mark) if mark is not None else None
 
 
-def bearing_ones(takings, number, window, mark):
-    """Tell those of plain takings that bear a mark of a question and window."""
-    bit = (number_of(window), numbers_in(mark))
-    return [taking for taking in takings if taking[3] == number_of(number) and bit in taking[4]]
-
-
 def stand_behind(steps, takings):
     """Tell whether each step is one of the takings, each one behind the one before it."""
     done = 0
     for taking in takings:
-        if done < len(steps) and taking == steps[done]:
+        if done < len(steps) and numbers_in(taking[:4]) == steps[done][:4] and plain_taking(taking) == steps[done]:
             done += 1
     return done == len(steps)
