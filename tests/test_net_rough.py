@@ -19,6 +19,7 @@ from listenfield.weather import Weather
 from listenfield.webs import Web, cut_holds
 from model import Model
 from snapshots import all_told, net_told
+from things import Whole, is_own
 
 
 def do_model(model, deed):
@@ -87,6 +88,16 @@ class Always(unittest.TestCase):
                     self.assertIs(ledger_holds(terms, at, store.ledger(), store.left()), True)
                 self.assertIs(cut_holds(terms.web, net.living(), net.cut()), True)
                 self.assertTrue(is_laminar([item for at in range(terms.many()) for item in net.items_at(at)]))
+
+    def test_all_that_is_told_is_pythons_own_and_told_again_the_same(self):
+        for seed in range(8):
+            told = Deeds(seed, turns=20)
+            net, many = Net(told.terms), told.terms.many()
+            for word, *rest in told.deeds:
+                do(net, (word, *[Whole(part) if isinstance(part, int) else part for part in rest]))
+            once = all_told(net, many)
+            self.assertTrue(is_own(list(once.values())))
+            self.assertEqual(all_told(net, many), once)
 
     def test_no_two_speeches_of_clashing_places_overlap(self):
         many = 0
